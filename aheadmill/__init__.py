@@ -1,0 +1,1 @@
+"""Aheadmill: a mill that works ahead."""
