@@ -23,3 +23,32 @@ def telling_words():
     singles = [1 << bit for bit in range(64)]
     greatest = [GREATEST - less for less in range(40)]
     return list(range(40)) + singles + greatest + any_words(1, 40)
+
+
+BOXES = "abcdefgh"
+
+
+# A row of each kind in turn, its target from 0 to the number of rows.
+def any_row(source, kind, rows, word):
+    boxes = [source.randrange(8) for count in range(3)]
+    if kind in WAYS:
+        return (kind,) + tuple(boxes)
+    if kind == "set":
+        return (kind, boxes[0], word)
+    if kind == "move":
+        return (kind, boxes[0], boxes[1])
+    if kind in ("load", "store"):
+        return (kind, boxes[0], boxes[1], source.choice((0, 1, -1, 5, -999, 999, source.randint(-999, 999))))
+    if kind == "jump":
+        return (kind, boxes[0], source.randint(0, rows))
+    if kind == "go":
+        return (kind, source.randint(0, rows))
+    return ("fault", word)
+
+
+KINDS = WAYS + ("set", "move", "load", "store", "jump", "go", "fault")
+
+
+def any_program(source, rows):
+    words = any_words(source.random(), rows)
+    return [any_row(source, source.choice(KINDS), rows, word) for word in words]

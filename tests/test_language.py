@@ -16,6 +16,8 @@ OWN_NAMES = set("""len range enumerate zip min max sum abs sorted reversed int s
 OWN_METHODS = set("""append clear copy count endswith extend find get index insert isalnum isalpha isdigit islower
     isspace isupper items join keys ljust lower lstrip partition pop remove replace reverse rfind rjust rpartition
     rsplit rstrip setdefault split splitlines startswith strip update upper values zfill bit_length""".split())
+TAKEN_NAMES = {name for value in ("", 0, [], {}, set(), b"") for name in dir(value) if not name.startswith("_")}
+OWN_VALUES = set("count index title find get join lower upper split strip copy add".split())
 DUNDERS = {"__init__", "__eq__", "__repr__", "__str__", "__len__"}
 OUT_WORDS = re.compile(r"\b(type|typing|typing_extensions|enum|Enum|IntEnum|StrEnum|Flag|IntFlag|Generic|Protocol|ABC"
                        r"|ABCMeta|namedtuple|NamedTuple|TypedDict|TYPE_CHECKING|abstractmethod)\b"
@@ -143,10 +145,81 @@ def fault_of_node(node, methods):
     return None
 
 
-def methods_in_package():
-    trees = [ast.parse(path.read_text()) for path in FILES]
-    classes = [node for tree in trees for node in tree.body if isinstance(node, ast.ClassDef)]
-    return {part.name for node in classes for part in node.body if isinstance(part, ast.FunctionDef)}
+def classes_in(trees):
+    return [node for tree in trees for node in tree.body if isinstance(node, ast.ClassDef)]
+
+
+def methods_in(trees):
+    return {part.name for node in classes_in(trees) for part in node.body if isinstance(part, ast.FunctionDef)}
+
+
+def values_in(trees):
+    nodes = [node for tree in trees for node in ast.walk(tree) if isinstance(node, ast.Attribute)]
+    return {node.attr for node in nodes if isinstance(node.ctx, ast.Store)}
+
+
+def faults_of_own_names(trees):
+    methods = methods_in(trees)
+    values = values_in(trees)
+    told = [(name, "L18 method and value") for name in methods & values]
+    told += [(name, "L26 value") for name in values & TAKEN_NAMES - OWN_VALUES]
+    told += [(name, "L26 method") for name in methods & TAKEN_NAMES - OWN_METHODS - DUNDERS - {"add", "discard"}]
+    for node in classes_in(trees):
+        names = [part.name for part in node.body if isinstance(part, ast.FunctionDef)]
+        told += [(node.name, "L18 method twice") for name in set(names) if names.count(name) > 1]
+    return told
+
+
+# Where a class may stand: called, as a base, by isinstance, except and raise, and ahead of __init__.
+def class_places(tree):
+    told = []
+    for node in ast.walk(tree):
+        if isinstance(node, ast.ClassDef):
+            told += node.bases
+        elif isinstance(node, ast.Call):
+            told.append(node.func)
+            if isinstance(node.func, ast.Name) and node.func.id == "isinstance":
+                told += list(ast.walk(node.args[1]))
+        elif isinstance(node, ast.ExceptHandler):
+            told += list(ast.walk(node.type))
+        elif isinstance(node, ast.Attribute) and node.attr == "__init__":
+            told.append(node.value)
+    return told
+
+
+def faults_of_classes(tree, classes):
+    allowed = class_places(tree)
+    names = [node for node in ast.walk(tree) if isinstance(node, ast.Name) and node.id in classes]
+    return [(node.lineno, "L18 class " + node.id) for node in names if node not in allowed]
+
+
+# Locals and parameters that bear the name of a class or of an import of the file.
+def faults_of_locals(tree):
+    tops = {node.name for node in tree.body if isinstance(node, ast.ClassDef)}
+    tops |= {alias.name for node in tree.body if isinstance(node, ast.ImportFrom) for alias in node.names}
+    told = []
+    for node in ast.walk(tree):
+        if isinstance(node, ast.arg) and node.arg in tops:
+            told.append((node.lineno, "L15 parameter " + node.arg))
+        if isinstance(node, ast.Name) and isinstance(node.ctx, ast.Store) and node.id in tops:
+            told.append((node.lineno, "L15 local " + node.id))
+    return told
+
+
+KEYWORDS = {"sorted": {"key", "reverse"}, "min": {"key", "default"}, "max": {"key", "default"}, "sum": {"start"},
+            "enumerate": {"start"}, "zip": {"strict"}}
+WALKED = ("zip", "enumerate", "reversed", "range")
+
+
+def faults_of_calls(tree):
+    calls = [node for node in ast.walk(tree) if isinstance(node, ast.Call)]
+    named = [node for node in calls if isinstance(node.func, ast.Name) and node.func.id in OWN_NAMES]
+    told = [(node.lineno, "L22 keyword") for node in named
+            if {keyword.arg for keyword in node.keywords} - KEYWORDS.get(node.func.id, set())]
+    kept = [node.value for node in ast.walk(tree) if isinstance(node, (ast.Assign, ast.Return))]
+    told += [(node.lineno, "L23 kept") for node in named if node.func.id in WALKED and node in kept]
+    told += [(node.lineno, "L24 kept") for node in named if node.func.id in ("set", "frozenset") and node in kept]
+    return told
 
 
 def faults_of_tree(tree, methods):
@@ -169,10 +242,16 @@ class Language(unittest.TestCase):
                 self.assertEqual(faults_of_text(path.read_text()), [])
 
     def test_trees_of_the_files(self):
-        methods = methods_in_package()
-        for path in FILES:
+        trees = [ast.parse(path.read_text()) for path in FILES]
+        methods = methods_in(trees)
+        classes = {node.name for node in classes_in(trees)}
+        self.assertEqual(faults_of_own_names(trees), [])
+        for path, tree in zip(FILES, trees):
             with self.subTest(path=path.name):
-                self.assertEqual(faults_of_tree(ast.parse(path.read_text()), methods), [])
+                self.assertEqual(faults_of_tree(tree, methods), [])
+                self.assertEqual(faults_of_classes(tree, classes), [])
+                self.assertEqual(faults_of_locals(tree), [])
+                self.assertEqual(faults_of_calls(tree), [])
 
     def test_no_two_files_draw_from_one_another(self):
         drawn = {path.stem: [node.module.split(".")[1] for node in drawn_by(path)] for path in FILES}
@@ -189,6 +268,27 @@ class Language(unittest.TestCase):
                      "def f(x):\n    return x is 1", "with x:\n    pass", "x = 1\nx = 2", "x = 'a%b'"):
             with self.subTest(text=text):
                 self.assertNotEqual(faults_of_tree(ast.parse(text), set()), [])
+
+    def test_the_look_sees_faults_of_names(self):
+        method = "class A:\n    def one(self):\n        pass\n"
+        for text in (method + "def f(x):\n    x.one = 1", "def f(x):\n    x.items = 1", method.replace("one", "sort"),
+                     method + "    def one(self):\n        pass"):
+            with self.subTest(text=text):
+                self.assertNotEqual(faults_of_own_names([ast.parse(text)]), [])
+        for text in ("def f(x):\n    return x(A)", "x = [A]", "def f(x):\n    return A.one(x)"):
+            with self.subTest(text=text):
+                self.assertNotEqual(faults_of_classes(ast.parse(text), {"A"}), [])
+        for text in ("class A(B):\n    def __init__(self):\n        B.__init__(self)", "def f(x):\n    raise A(x)",
+                     "def f(x):\n    return isinstance(x, (A, int))", "try:\n    f()\nexcept A:\n    pass"):
+            with self.subTest(text=text):
+                self.assertEqual(faults_of_classes(ast.parse(text), {"A", "B"}), [])
+        for text in ("from aheadmill.words import worked\ndef f(worked):\n    pass",
+                     "from aheadmill.words import worked\ndef f(x):\n    worked = x", method + "def f(A):\n    pass"):
+            with self.subTest(text=text):
+                self.assertNotEqual(faults_of_locals(ast.parse(text)), [])
+        for text in ("x = zip(y, z)", "def f(x):\n    return set(x)", "def f(x):\n    return sorted(x, cmp=f)"):
+            with self.subTest(text=text):
+                self.assertNotEqual(faults_of_calls(ast.parse(text)), [])
 
 
 if __name__ == "__main__":
