@@ -1,17 +1,28 @@
-"""What the tests share: a comparison that tells kinds apart, and words to try."""
+"""What the tests share: comparisons that tell kinds and refusals apart, and words, rows and programs to try."""
 
 import random
 import unittest
 
+from aheadmill.errors import MillError
+
 BEYOND = 18446744073709551616
 GREATEST = 18446744073709551615
 WAYS = ("sum", "less", "times", "share", "rest", "both", "some", "odd", "up", "down", "below", "same")
+KINDS = WAYS + ("set", "move", "load", "store", "jump", "go", "fault")
+BOXES = "abcdefgh"
 
 
 class Case(unittest.TestCase):
     def told(self, value, expected):
         # True == 1, so the written form is compared too.
         self.assertEqual((value, repr(value)), (expected, repr(expected)))
+
+    # The very class of the refusal, none above or beside it.
+    def refused(self, kind, deed, *given):
+        with self.assertRaises(MillError) as caught:
+            deed(*given)
+        self.assertIs(type(caught.exception), kind)
+        return caught.exception
 
 
 def any_words(seed, many):
@@ -25,10 +36,7 @@ def telling_words():
     return list(range(40)) + singles + greatest + any_words(1, 40)
 
 
-BOXES = "abcdefgh"
-
-
-# A row of each kind in turn, its target from 0 to the number of rows.
+# A row of this kind with any boxes, its target from 0 to the number of rows.
 def any_row(source, kind, rows, word):
     boxes = [source.randrange(8) for count in range(3)]
     if kind in WAYS:
@@ -44,9 +52,6 @@ def any_row(source, kind, rows, word):
     if kind == "go":
         return (kind, source.randint(0, rows))
     return ("fault", word)
-
-
-KINDS = WAYS + ("set", "move", "load", "store", "jump", "go", "fault")
 
 
 def any_program(source, rows):

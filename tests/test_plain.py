@@ -2,7 +2,7 @@ import copy
 import random
 import unittest
 
-from aheadmill.errors import MillError, NoPlace
+from aheadmill.errors import NoPlace
 from aheadmill.plain import behind, does, poked, run
 from aheadmill.texts import read
 from tests.helper import BEYOND, GREATEST, KINDS, WAYS, Case, any_row, any_words, telling_words
@@ -294,9 +294,7 @@ class Poked(Case):
         for room in range(1, 65):
             stand = (7, BOXES, tuple(range(room)))
             for place in (-1, -2, -room, -room - 1, room, room + 1, 999, -999, GREATEST, BEYOND, 10 ** 59, -(10 ** 59)):
-                with self.assertRaises(MillError) as caught:
-                    poked(stand, place, 9)
-                self.assertIs(type(caught.exception), NoPlace)
+                self.refused(NoPlace, poked, stand, place, 9)
             self.told(stand, (7, BOXES, tuple(range(room))))
 
 

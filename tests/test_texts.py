@@ -3,7 +3,7 @@ import random
 import re
 import unittest
 
-from aheadmill.errors import MillError, NoLabel, NoRow, Twice
+from aheadmill.errors import NoLabel, NoRow, Twice
 from aheadmill.texts import read, read_row, show_row, shown
 from tests.helper import BEYOND, BOXES, GREATEST, KINDS, WAYS, Case, any_program, any_row, telling_words
 
@@ -42,13 +42,10 @@ def spread(source, text):
     return line + source.choice(("", "#", "# a remark", "#set a 5", "## go : 7 #"))
 
 
-class Refusing(Case):
-    # The very class, and the line as a whole number.
-    def refused(self, kind, line, deed, given):
-        with self.assertRaises(MillError) as caught:
-            deed(given)
-        self.assertEqual((type(caught.exception), given), (kind, given))
-        self.told(caught.exception.line, line)
+class Lined(Case):
+    def refused_at(self, kind, line, deed, given):
+        with self.subTest(given=given[:200]):
+            self.told(self.refused(kind, deed, given).line, line)
 
 
 class ShowRow(Case):
@@ -101,7 +98,7 @@ class ShowRow(Case):
             self.told(show_row(("jump", 6, target)), "jump g " + str(target))
 
 
-class ReadRow(Refusing):
+class ReadRow(Lined):
     def test_each_kind(self):
         for row, text in WRITTEN:
             self.told(read_row(text), row)
@@ -148,17 +145,17 @@ class ReadRow(Refusing):
         for row, text in WRITTEN:
             parts = text.split(" ")
             for cut in range(len(parts)):
-                self.refused(NoRow, 0, read_row, " ".join(parts[:cut] + parts[cut + 1:]))
+                self.refused_at(NoRow, 0, read_row, " ".join(parts[:cut] + parts[cut + 1:]))
             for extra in ("a", "5", "0", "-1", "loop", "set", "a 5", ":"):
                 for at in range(len(parts) + 1):
-                    self.refused(NoRow, 0, read_row, " ".join(parts[:at] + [extra] + parts[at:]))
+                    self.refused_at(NoRow, 0, read_row, " ".join(parts[:at] + [extra] + parts[at:]))
 
     def test_no_kind(self):
         for row, text in WRITTEN:
             kind, blank, others = text.partition(" ")
             for other in (kind.upper(), kind.capitalize(), kind[:-1] + kind[-1].upper(), kind + "s", kind + "a",
                           "a" + kind, kind[1:], kind[:-1], kind + ":", kind + "1", kind + "-", "-" + kind, "#" + kind):
-                self.refused(NoRow, 0, read_row, other + " " + others)
+                self.refused_at(NoRow, 0, read_row, other + " " + others)
 
     def test_no_box(self):
         for row, text in WRITTEN:
@@ -167,18 +164,18 @@ class ReadRow(Refusing):
                 if parts[at] in BOXES:
                     for box in ("i", "z", "A", "H", "0", "7", "aa", "ab", "abc", "abcdefgh", "a,", "a:", "-a", "`",
                                 "'a'", "bc", "gh", "-", "_"):
-                        self.refused(NoRow, 0, read_row, " ".join(parts[:at] + [box] + parts[at + 1:]))
+                        self.refused_at(NoRow, 0, read_row, " ".join(parts[:at] + [box] + parts[at + 1:]))
 
     def refused_numbers(self, numbers, starts):
         for start in starts:
             for number in numbers:
-                self.refused(NoRow, 0, read_row, start + number)
-                self.refused(NoRow, 0, read_row, " " + start + number + "  # x")
+                self.refused_at(NoRow, 0, read_row, start + number)
+                self.refused_at(NoRow, 0, read_row, " " + start + number + "  # x")
 
     def test_no_number_anywhere(self):
         bad = ["00", "01", "007", "+0", "+5", "+", "-", "-0", "-00", "-01", "--1", "+-1", "-+1", "- 1", "1 0", "1_0",
-               "1,0", "1.0", "1.", ".1", "1e2", "0x1", "0b1", "1-", "5a", "a5", "5x", "x5", "A", "5:", "'5'", "5L", "5,",
-               "1/1", "0" * 30, "0" * 5000, "-" + "0" * 5000, "0" * 30 + "1", "0" * 5000 + "1", "~", "$", "()"]
+               "1,0", "1.0", "1.", ".1", "1e2", "0x1", "0b1", "1-", "5a", "a5", "5x", "x5", "A", "5:", "'5'", "5L",
+               "5,", "1/1", "0" * 30, "0" * 5000, "-" + "0" * 5000, "0" * 30 + "1", "0" * 5000 + "1", "~", "$", "()"]
         self.refused_numbers(bad + LONG + ["-" + figures for figures in LONG],
                              ("set a ", "fault ", "load a b ", "store a b ", "jump a ", "go "))
 
@@ -206,24 +203,24 @@ class ReadRow(Refusing):
 
     def test_commas(self):
         for row, text in WRITTEN:
-            self.refused(NoRow, 0, read_row, text.replace(" ", ","))
-            self.refused(NoRow, 0, read_row, text.replace(" ", ", "))
-            self.refused(NoRow, 0, read_row, text + ",")
-            self.refused(NoRow, 0, read_row, text + ";")
-            self.refused(NoRow, 0, read_row, "," + text)
+            self.refused_at(NoRow, 0, read_row, text.replace(" ", ","))
+            self.refused_at(NoRow, 0, read_row, text.replace(" ", ", "))
+            self.refused_at(NoRow, 0, read_row, text + ",")
+            self.refused_at(NoRow, 0, read_row, text + ";")
+            self.refused_at(NoRow, 0, read_row, "," + text)
 
     def test_labels_lines(self):
         for label in LABELS:
             for line in (label + ":", label + " :", " " + label + ": # x", label, label + ": set a 5",
                          label + ":set a 5", "set a 5 " + label + ":", label + ": go " + label, label + "::"):
-                self.refused(NoRow, 0, read_row, line)
+                self.refused_at(NoRow, 0, read_row, line)
 
     def test_nothing(self):
         for line in ("", " ", "     ", "#", "# set a 5", "   # set a 5", "#set a 5", ":", " : ", "set#a 5", "set a #5"):
-            self.refused(NoRow, 0, read_row, line)
+            self.refused_at(NoRow, 0, read_row, line)
 
 
-class Read(Refusing):
+class Read(Lined):
     def test_nothing(self):
         for text in ("", "\n", "\n\n\n", "  ", " \n  \n", "# x", "# x\n  # set a 5\n\n", "end:", "a:\nb:\n\nc: # x"):
             self.told(read(text), [])
@@ -255,8 +252,8 @@ class Read(Refusing):
     def test_labels_like_a_beginning(self):
         text = "go a\ngo ab\ngo abc\nabc:\nset a 1\nab:\nset a 2\na:\nset a 3"
         self.told(read(text)[:3], [("go", 5), ("go", 4), ("go", 3)])
-        self.refused(NoLabel, 0, read, "go ab\na:\nabc:")
-        self.refused(NoLabel, 1, read, "a:\ngo abc\nab:")
+        self.refused_at(NoLabel, 0, read, "go ab\na:\nabc:")
+        self.refused_at(NoLabel, 1, read, "a:\ngo abc\nab:")
         self.told(read("a:\nab:\nabc:"), [])
 
     def test_label_and_remark(self):
@@ -267,8 +264,8 @@ class Read(Refusing):
         for line in ("loop :", "loop  :", ":", ": ", "loop::", ":loop", "loop: loop:", "Loop:", "lo1:", "a_b:",
                      "abcdefghi:", "loop:x", "loop: set a 5", "set a 5 loop:", "loop: go loop", "1:", "0:", "-:",
                      "lo op:", "loop", "a", "loop;", "loop: :", "lo#op:"):
-            self.refused(NoRow, 0, read, line)
-            self.refused(NoRow, 2, read, "set a 5\n\n" + line + "\ngo loop\nloop:\n")
+            self.refused_at(NoRow, 0, read, line)
+            self.refused_at(NoRow, 2, read, "set a 5\n\n" + line + "\ngo loop\nloop:\n")
 
     def test_numbers_up_to_the_number_of_rows(self):
         for rows in (1, 2, 5, 50, 399, 400):
@@ -278,36 +275,36 @@ class Read(Refusing):
             for target in (rows + 1, rows + 2, 400):
                 if rows < target <= 400:
                     text = "\n".join(["go 0"] * (rows - 1) + ["jump a " + str(target)])
-                    self.refused(NoLabel, rows - 1, read, text)
+                    self.refused_at(NoLabel, rows - 1, read, text)
 
     def test_lines_are_counted_from_nought_all_of_them(self):
-        self.refused(NoRow, 0, read, "bad")
-        self.refused(NoRow, 4, read, "\n# x\nloop:\n\nbad\nbad")
-        self.refused(Twice, 5, read, "\nloop:\n\n# x\nset a 5\nloop:\nloop:")
-        self.refused(NoLabel, 5, read, "\nloop:\n\n# x\ngo loop\ngo away\ngo away")
-        self.refused(NoLabel, 5, read, "\nloop:\n\n# x\ngo loop\ngo 4\ngo 3\n\n")
-        self.refused(NoLabel, 3, read, "\n\n\ngo 2\n\n\n")
+        self.refused_at(NoRow, 0, read, "bad")
+        self.refused_at(NoRow, 4, read, "\n# x\nloop:\n\nbad\nbad")
+        self.refused_at(Twice, 5, read, "\nloop:\n\n# x\nset a 5\nloop:\nloop:")
+        self.refused_at(NoLabel, 5, read, "\nloop:\n\n# x\ngo loop\ngo away\ngo away")
+        self.refused_at(NoLabel, 5, read, "\nloop:\n\n# x\ngo loop\ngo 4\ngo 3\n\n")
+        self.refused_at(NoLabel, 3, read, "\n\n\ngo 2\n\n\n")
 
     def test_which_refusal_comes_first(self):
-        self.refused(NoRow, 4, read, "a:\na:\ngo away\ngo 9\nbad\nbad")
-        self.refused(NoRow, 3, read, "go away\na:\na:\nset a\na:")
-        self.refused(Twice, 3, read, "go away\ngo 99\na:\na:\nb:\nb:")
-        self.refused(Twice, 3, read, "a:\nb:\n\nb:\na:")
-        self.refused(Twice, 1, read, "a:\na:\na:")
-        self.refused(NoLabel, 1, read, "a:\njump c 400\ngo away")
-        self.refused(NoLabel, 1, read, "a:\ngo away\njump c 400")
-        self.refused(NoRow, 1, read, "go 400\ngo 401")
+        self.refused_at(NoRow, 4, read, "a:\na:\ngo away\ngo 9\nbad\nbad")
+        self.refused_at(NoRow, 3, read, "go away\na:\na:\nset a\na:")
+        self.refused_at(Twice, 3, read, "go away\ngo 99\na:\na:\nb:\nb:")
+        self.refused_at(Twice, 3, read, "a:\nb:\n\nb:\na:")
+        self.refused_at(Twice, 1, read, "a:\na:\na:")
+        self.refused_at(NoLabel, 1, read, "a:\njump c 400\ngo away")
+        self.refused_at(NoLabel, 1, read, "a:\ngo away\njump c 400")
+        self.refused_at(NoRow, 1, read, "go 400\ngo 401")
 
     def test_a_label_is_told_twice_wherever(self):
-        self.refused(Twice, 2, read, "a:\nset a 5\na:")
-        self.refused(Twice, 2, read, "a:\nset a 5\n  a: # x")
+        self.refused_at(Twice, 2, read, "a:\nset a 5\na:")
+        self.refused_at(Twice, 2, read, "a:\nset a 5\n  a: # x")
         self.told(read("a:\nset a 5\naa:\n# a:\naaa:"), [("set", 0, 5)])
 
     def test_thousands_of_figures(self):
         for figures in LONG:
-            self.refused(NoRow, 1, read, "set a 5\nset a " + figures + "\nbad")
-            self.refused(NoRow, 1, read, "set a 5\ngo " + figures + "\nbad")
-            self.refused(NoRow, 1, read, "set a 5\nload a b -" + figures + "\nbad")
+            self.refused_at(NoRow, 1, read, "set a 5\nset a " + figures + "\nbad")
+            self.refused_at(NoRow, 1, read, "set a 5\ngo " + figures + "\nbad")
+            self.refused_at(NoRow, 1, read, "set a 5\nload a b -" + figures + "\nbad")
 
     def test_each_answer_is_a_new_list(self):
         first = read("go end\nend:")
@@ -391,7 +388,7 @@ def any_line(source, labels, troubled):
     return spread(source, show_row(any_row(source, source.choice(KINDS), 12, source.getrandbits(64))))
 
 
-class ReadByPattern(Refusing):
+class ReadByPattern(Lined):
     def test_any_texts(self):
         source = random.Random(21)
         seen = {NoRow: 0, Twice: 0, NoLabel: 0, list: 0}
@@ -407,7 +404,7 @@ class ReadByPattern(Refusing):
             if isinstance(answer, list):
                 self.told(read(text), answer)
             else:
-                self.refused(answer[0], answer[1], read, text)
+                self.refused_at(answer[0], answer[1], read, text)
         self.assertGreater(min(seen.values()), 50, seen)
 
 
