@@ -5,7 +5,8 @@ import unittest
 from aheadmill.errors import NoPlace
 from aheadmill.plain import behind, does, poked, run
 from aheadmill.texts import read
-from tests.helper import BEYOND, GREATEST, KINDS, WAYS, Case, any_row, any_words, telling_words
+from tests.helper import BEYOND, GREATEST, KINDS, WAYS, WORKED, Case, any_row, any_words, run_in_place
+from tests.helper import telling_words, wild_program
 
 BOXES = (10, 11, 12, 13, 14, 15, 16, 17)
 EMPTY = (0,) * 8
@@ -202,68 +203,13 @@ class Run(Case):
         self.told(stand[2], tuple(max(word for word in range(500) if word % 64 == place) for place in range(64)))
 
 
-# Another machine with boxes and a memory that it changes in place, to hold the program's against.
-WORKED = {
-    "sum": lambda one, other: (one + other) % BEYOND, "less": lambda one, other: (one - other) % BEYOND,
-    "times": lambda one, other: one * other % BEYOND, "share": lambda one, other: one // other,
-    "rest": lambda one, other: one % other, "both": lambda one, other: one & other,
-    "some": lambda one, other: one | other, "odd": lambda one, other: one ^ other,
-    "up": lambda one, other: (one << other) % BEYOND if other < 64 else 0,
-    "down": lambda one, other: one >> other if other < 64 else 0,
-    "below": lambda one, other: int(one < other), "same": lambda one, other: int(one == other),
-}
-
-
-def fault_in_place(row, boxes, memory):
-    if row[0] == "fault":
-        return ("told", row[1])
-    if row[0] in ("share", "rest") and boxes[row[3]] == 0:
-        return ("nought", boxes[row[2]])
-    if row[0] in ("load", "store") and boxes[row[2]] + row[3] not in range(len(memory)):
-        return ("place", boxes[row[2]] + row[3])
-    return None
-
-
-def run_in_place(program, start, most):
-    at, boxes, memory, deeds = start[0], list(start[1]), list(start[2]), []
-    while len(deeds) < most and at != len(program):
-        row = program[at]
-        fault = fault_in_place(row, boxes, memory)
-        if fault:
-            deeds.append((at, None, None, None, None, fault))
-            break
-        box, place, word, after = None, None, None, at + 1
-        if row[0] in WORKED:
-            box, word = row[1], WORKED[row[0]](boxes[row[2]], boxes[row[3]])
-        elif row[0] in ("set", "move"):
-            box, word = row[1], row[2] if row[0] == "set" else boxes[row[2]]
-        elif row[0] == "load":
-            box, place = row[1], boxes[row[2]] + row[3]
-            word = memory[place]
-        elif row[0] == "store":
-            place, word = boxes[row[2]] + row[3], boxes[row[1]]
-            memory[place] = word
-        elif row[0] == "go" or boxes[row[1]]:
-            after = row[-1]
-        if box is not None:
-            boxes[box] = word
-        deeds.append((at, box, place, word, after, None))
-        at = after
-    return (deeds, (at, tuple(boxes), tuple(memory)))
-
-
-def near_row(source, rows, room):
-    row = any_row(source, source.choice(KINDS[:-1] * 3 + KINDS[-1:]), rows, source.choice((0, 1, 2, 3, room, GREATEST)))
-    return row[:3] + (source.randint(-2, 4),) if row[0] in ("load", "store") else row
-
-
 class RunInPlace(Case):
     def test_any_programs(self):
         source = random.Random(51)
         ends = {}
         for count in range(1500):
             rows, room = source.randint(0, 25), source.randint(1, 64)
-            program = [near_row(source, rows, room) for row in range(rows)]
+            program = wild_program(source, rows, room)
             boxes = tuple(source.choice((0, 1, 2, 5, room, source.getrandbits(64))) for box in range(8))
             start = (source.randint(0, rows), boxes, tuple(any_words(count, room)))
             most = source.choice((0, 1, 5, 40, 200))
