@@ -140,6 +140,8 @@ def fault_of_node(node, methods):
         return fault_of_statement(node)
     if isinstance(node, OUT_EXPRESSIONS):
         return "L7 expression"
+    if isinstance(node, ast.Attribute) and isinstance(node.ctx, ast.Store) and not isinstance(node.value, ast.Name):
+        return "L18 value"
     if isinstance(node, ast.Call) and isinstance(node.func, ast.Attribute):
         return None if node.func.attr in OWN_METHODS | methods else "L25 method"
     return None
@@ -265,7 +267,8 @@ class Language(unittest.TestCase):
     def test_the_look_sees_faults(self):
         for text in ("import os", "x = 1.5", "def f(*a):\n    pass", "x = y = 1", "def f(type):\n    pass",
                      "def f(x):\n    return eval(x)", "def f(x):\n    return x.sort()", "x = {k for k in y}",
-                     "def f(x):\n    return x is 1", "with x:\n    pass", "x = 1\nx = 2", "x = 'a%b'"):
+                     "def f(x):\n    return x is 1", "with x:\n    pass", "x = 1\nx = 2", "x = 'a%b'",
+                     "def f(x):\n    x.one.other = 1", "def f(x):\n    x.one.other += 1"):
             with self.subTest(text=text):
                 self.assertNotEqual(faults_of_tree(ast.parse(text), set()), [])
 

@@ -10,7 +10,8 @@ BOXES = (10, 11, 12, 13, 14, 15, 16, 17)
 
 class Slips(Case):
     def test_of_a_row_just_put_in(self):
-        self.told(Slot(7, 3, ("sum", 0, 1, 2), (4, None), 9).slip(), (7, 3, (4, None), None, None, (9, None, None, None)))
+        slot = Slot(7, 3, ("sum", 0, 1, 2), (4, None), 9)
+        self.told(slot.slip(), (7, 3, (4, None), None, None, (9, None, None, None)))
         self.told(Slot(0, 0, ("go", 0), (), 1).slip(), (0, 0, (), None, None, (1, None, None, None)))
 
     def test_as_it_stands_then(self):
@@ -73,7 +74,8 @@ class Entering(Case):
         self.assertEqual([slot.ticket for slot in window.slots], [0, 3, 6, 9, 12, 15, 18, 19])
 
     def test_names(self):
-        program = [("set", 0, 1), ("sum", 0, 0, 1), ("store", 0, 0, 0), ("move", 2, 0), ("load", 1, 2, 0), ("jump", 1, 0)]
+        program = [("set", 0, 1), ("sum", 0, 0, 1), ("store", 0, 0, 0), ("move", 2, 0), ("load", 1, 2, 0),
+                   ("jump", 1, 0)]
         names = [slot.names for slot in put_in(window_of(program), BOXES, 6)]
         self.told(names, [(), (0, None), (1, 1), (1,), (3,), (4,)])
 
@@ -131,7 +133,8 @@ class Giving(Case):
             self.told(window.shelf.stores(), [(0, 3, 5) if first == 0 else (0, 2, 6)])
 
     def test_a_place_that_bites(self):
-        program = [("set", 0, 1), ("store", 1, 0, 0), ("set", 2, 3), ("load", 3, 4, 0), ("load", 3, 4, 0), ("set", 5, 1)]
+        program = [("set", 0, 1), ("store", 1, 0, 0), ("set", 2, 3), ("load", 3, 4, 0), ("load", 3, 4, 0),
+                   ("set", 5, 1)]
         for place, thrown in ((4, 3), (5, 0), (-1, 0)):
             window = window_of(program)
             slots = put_in(window, BOXES, 6)

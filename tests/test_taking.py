@@ -119,7 +119,8 @@ class Stands(Case):
         self.told((ledger.storers, ledger.state), ({2: 0}, (1, BOXES, (20, 21, 4, 23, 24, 25, 26, 27))))
 
 
-FAULTS = [("fault", 4), ("share", 0, 1, 0), ("load", 0, 0, -1), ("load", 0, 0, 8), ("store", 0, 0, -1), ("store", 0, 1, 7)]
+FAULTS = [("fault", 4), ("share", 0, 1, 0), ("load", 0, 0, -1), ("load", 0, 0, 8), ("store", 0, 0, -1),
+          ("store", 0, 1, 7)]
 
 
 class Faults(Case):

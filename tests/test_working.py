@@ -284,7 +284,8 @@ class Starting(Case):
         self.told(started(window), [2, 5, 2])
 
     def test_a_bench_of_one_that_was_thrown_out(self):
-        window, ledger = works([("jump", 1, 0), ("times", 2, 1, 1), ("times", 3, 1, 1)], MANY[:1] + ((1, 16),) + MANY[2:])
+        program = [("jump", 1, 0), ("times", 2, 1, 1), ("times", 3, 1, 1)]
+        window, ledger = works(program, MANY[:1] + ((1, 16),) + MANY[2:])
         until(window, ledger, 2)
         self.told(started(window), [2, 2, None])
         until(window, ledger, 3)
