@@ -41,13 +41,13 @@ def start_all(window, ledger):
 
 def start(window, ledger, slot):
     group = group_of(slot.row)
-    if window.benches.free(group) > 0 and may_start(window, ledger, slot):
+    if window.benches.free(group) > 0 and take_word(window, ledger, slot):
         window.benches.start(slot.ticket, group, window.now)
         slot.started = window.now
 
 
-# A load whose place isn't in the memory takes nothing: it will be a fault.
-def may_start(window, ledger, slot):
+# False where a load has to wait for its word. One whose place isn't in the memory takes none: it will be a fault.
+def take_word(window, ledger, slot):
     if slot.row[0] != "load" or not in_memory(slot.spot(), ledger.state[2]):
         return True
     place = slot.spot()
